@@ -1,0 +1,1 @@
+"""Beamload: beams, loads and rests in exact fractions."""

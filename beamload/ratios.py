@@ -25,3 +25,11 @@ def minus(one, other):
 def under(one, other):
     # Both bottoms are above 0, so multiplying by them keeps the order.
     return one[0] * other[1] < other[0] * one[1]
+
+
+def times(one, other):
+    return fraction(one[0] * other[0], one[1] * other[1])
+
+
+def over(one, other):
+    return fraction(one[0] * other[1], one[1] * other[0])

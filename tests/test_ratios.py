@@ -4,7 +4,7 @@ import unittest
 from fractions import Fraction
 
 from beamload.errors import BeamError, NoBeam, NoLoad, NoNumber, OffBeam
-from beamload.ratios import fraction, minus, plus, under
+from beamload.ratios import fraction, minus, over, plus, times, under
 
 SIXTY = 10 ** 59 + 7
 SIXTY_OTHER = 9 * 10 ** 59 + 10 ** 30 + 3
@@ -149,6 +149,21 @@ class TestPlusAndMinus(FractionCase):
         for bottom in range(1, 201):
             answer = minus(answer, (1, bottom))
         self.assertEqual(answer, (0, 1))
+
+
+class TestTimesAndOver(FractionCase):
+    def test_all_small_pairs(self):
+        for one in small_fractions():
+            for other in small_fractions():
+                self.assert_fraction(times(pair(one), pair(other)), one * other)
+                if other != 0:
+                    self.assert_fraction(over(pair(one), pair(other)), one / other)
+
+    def test_numbers_of_sixty_and_of_six_hundred_figures(self):
+        for one in great_fractions()[::5]:
+            for other in great_fractions()[::4]:
+                self.assert_fraction(times(pair(one), pair(other)), one * other)
+                self.assert_fraction(over(pair(one), pair(other)), one / other)
 
 
 class TestUnder(unittest.TestCase):
